@@ -599,7 +599,7 @@ func TestNothingKept(t *testing.T) {
 	}
 }
 
-// The maps are made once, though many ask at once.
+// The map is made once, though many ask at once.
 func TestMadeOnce(t *testing.T) {
 	var all sync.WaitGroup
 	for range 8 {
@@ -611,4 +611,20 @@ func TestMadeOnce(t *testing.T) {
 		})
 	}
 	all.Wait()
+}
+
+// The map holds the named keys, and what is worked out beside it is the same.
+func TestMapAsWorkedOut(t *testing.T) {
+	making.Do(makeMap)
+	if len(byName) != len(table()) {
+		t.Errorf("%d keys stand in the map, want %d", len(byName), len(table()))
+	}
+	for name, b := range table() {
+		if k := byName[name]; k.name != name || k.bytes != b {
+			t.Errorf("%q: %q in the map, want %q", name, k, b)
+		}
+		if s, why := bytesOf(name); s != b || why != api.OK {
+			t.Errorf("%q: %q %d worked out, want %q", name, s, why, b)
+		}
+	}
 }
